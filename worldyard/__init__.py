@@ -1,0 +1,1 @@
+"""Worldyard: what holds in worlds that lead to one another."""
