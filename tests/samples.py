@@ -1,4 +1,4 @@
-"""Sayings, things that are none, and ways to build and spoil them, for all tests."""
+"""Sayings, things that are none, yards, and ways to build and spoil sayings, for all tests."""
 
 P = ("name", "p")
 Q = ("name", "q")
@@ -60,7 +60,20 @@ NO_SAYINGS = [
     ("or", None, Q), ("or", P, ()), ("all", 0, "p"), ("some", 0, 1),
 ]
 
+LONE = ((), ((), (), ()))
 LEADS_TO_ITSELF = ((), ((0,), (0,), (0,)))
+
+YARDS = [
+    (LONE,),
+    (LEADS_TO_ITSELF,),
+    ((("p",), ((), (), ())),),
+    ((("a", "ab", "b", "name", "z"), ((), (), ())),),
+    ((("p",), ((0,), (), ())),),
+    (LONE, LONE, LONE),
+    (((), ((1,), (0, 1), ())), (("p", "q"), ((), (), (0,)))),
+    ((("p",), ((0, 1, 2), (2,), (1, 2))), (("q",), ((), (0,), (0, 2))), ((), ((1,), (), (0, 1, 2)))),
+    tuple([((), ((k,), (), tuple(range(12)))) for k in range(12)]),
+]
 
 
 def wrapped(inner, depth):

@@ -25,6 +25,8 @@ items join keys ljust lower lstrip partition pop remove replace reverse rfind rj
 split splitlines startswith strip update upper values zfill bit_length""".split()
 WORDS_THAT_STAND_NOWHERE = r"""\b(type|typing|typing_extensions|enum|Enum|IntEnum|StrEnum|Flag|IntFlag|Generic|Protocol
 |ABC|ABCMeta|namedtuple|NamedTuple|TypedDict|TYPE_CHECKING|abstractmethod)\b|dataclass|overload|contextmanager"""
+WALKERS = ("zip", "enumerate", "reversed", "range")
+WALKED_BY = ("list", "tuple", "dict", "sorted", "sum", "any", "all", "enumerate", "zip", "min", "max")
 SPECIAL_METHODS = ("__init__", "__eq__", "__repr__", "__str__", "__len__")
 
 
@@ -65,6 +67,29 @@ def top_names(tree):
             found.append(node.name)
         elif isinstance(node, ast.Assign):
             found += [target.id for target in node.targets]
+    return found
+
+
+def local_names(tree):
+    """Parameters and locals of a file's functions."""
+    found = []
+    for node in ast.walk(tree):
+        if isinstance(node, ast.arg):
+            found.append(node.arg)
+        elif isinstance(node, (ast.FunctionDef, ast.Lambda)):
+            inner = [part for part in ast.walk(node) if isinstance(part, ast.Name)]
+            found += [part.id for part in inner if isinstance(part.ctx, ast.Store)]
+    return found
+
+
+def walked_on_the_spot(tree):
+    """What stands behind the in of a loop or a comprehension, or first in a call that walks it."""
+    found = []
+    for node in ast.walk(tree):
+        if isinstance(node, (ast.For, ast.comprehension)):
+            found.append(node.iter)
+        elif isinstance(node, ast.Call) and isinstance(node.func, ast.Name) and node.func.id in WALKED_BY:
+            found += node.args[:1]
     return found
 
 
@@ -147,6 +172,20 @@ class Language(unittest.TestCase):
         for path, node in nodes(ast.Name):
             if hasattr(builtins, node.id):
                 self.assertIn(node.id, BUILTINS, (path, node.lineno))
+
+    def test_locals_are_not_called_like_imports_or_classes(self):
+        for path, tree in trees():
+            taken = [alias.asname or alias.name for node in imports(tree) for alias in node.names]
+            taken += [node.name for node in tree.body if isinstance(node, ast.ClassDef)]
+            for name in local_names(tree):
+                self.assertNotIn(name, taken, path)
+
+    def test_walked_at_once(self):
+        for path, tree in trees():
+            walked = walked_on_the_spot(tree)
+            for node in ast.walk(tree):
+                if isinstance(node, ast.Call) and isinstance(node.func, ast.Name) and node.func.id in WALKERS:
+                    self.assertTrue(any(node is one for one in walked), (path, node.lineno))
 
     def test_methods(self):
         own = [node.name for path, node in nodes(ast.FunctionDef)]

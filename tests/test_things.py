@@ -2,10 +2,10 @@ import copy
 import itertools
 import unittest
 
-from samples import LEADS_TO_ITSELF, NO_SAYINGS, P, Q, WRITINGS, sayings_to_depth, spoilt_in_one_place, wrapped
+from samples import (
+    LEADS_TO_ITSELF, LONE, NO_SAYINGS, P, Q, WRITINGS, YARDS, sayings_to_depth, spoilt_in_one_place, wrapped,
+)
 from worldyard.things import is_own, is_saying, is_yard
-
-LONE = ((), ((), (), ()))
 
 
 def yard_of(names, ways, size):
@@ -80,18 +80,6 @@ class Sayings(unittest.TestCase):
             self.assertIs(is_saying(thing), first, thing)
             self.assertEqual(repr(thing), before)
 
-
-YARDS = [
-    (LONE,),
-    (LEADS_TO_ITSELF,),
-    ((("p",), ((), (), ())),),
-    ((("a", "ab", "b", "name", "z"), ((), (), ())),),
-    ((("p",), ((0,), (), ())),),
-    (LONE, LONE, LONE),
-    (((), ((1,), (0, 1), ())), (("p", "q"), ((), (), (0,)))),
-    ((("p",), ((0, 1, 2), (2,), (1, 2))), (("q",), ((), (0,), (0, 2))), ((), ((1,), (), (0, 1, 2)))),
-    tuple([((), ((k,), (), tuple(range(12)))) for k in range(12)]),
-]
 
 NO_NAMES = [
     ("q", "p"), ("p", "p"), ("p", "q", "q"), ("a", "c", "b"), ("b", "ab"), ("ab", "a"),

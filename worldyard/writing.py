@@ -1,7 +1,8 @@
 """The writing of sayings."""
 
 from worldyard.errors import NoSaying
-from worldyard.things import is_saying, parts
+from worldyard.things import is_saying
+from worldyard.walking import walked
 
 
 # The words of a saying that stand ahead of its parts.
@@ -14,14 +15,10 @@ def first_words(saying):
     return [head]
 
 
-# The parts wait last one first, since the next one is taken from the end.
 def written(saying):
     if not is_saying(saying):
         raise NoSaying("what is no saying is not written")
     words = []
-    waiting = [saying]
-    while len(waiting) > 0:
-        part = waiting.pop()
+    for part in walked(saying):
         words.extend(first_words(part))
-        waiting.extend(parts(part)[::-1])
     return " ".join(words)
