@@ -1,4 +1,4 @@
-"""Sayings, things that are none, yards, and ways to build and spoil sayings, for all tests."""
+"""Sayings, things that are none, yards, and ways to build, tell and spoil them, for all tests."""
 
 P = ("name", "p")
 Q = ("name", "q")
@@ -91,6 +91,45 @@ def wrapped(inner, depth):
     return inner
 
 
+def said(yard, world, saying):
+    """Whether it holds, straight from the document's sentence, world by world."""
+    head = saying[0]
+    if head == "name":
+        return saying[1] in yard[world][0]
+    if head == "not":
+        return not said(yard, world, saying[1])
+    if head == "and":
+        return said(yard, world, saying[1]) and said(yard, world, saying[2])
+    if head == "or":
+        return said(yard, world, saying[1]) or said(yard, world, saying[2])
+    worlds = yard[world][1][saying[1]]
+    if head == "all":
+        return all(said(yard, other, saying[2]) for other in worlds)
+    return any(said(yard, other, saying[2]) for other in worlds)
+
+
+def shown(tree, row, own):
+    """Whether the tree, of tuples and of sayings, shows it: straight from the document's sentences."""
+    head = tree[0]
+    if head == "clash":
+        return ("name", tree[1]) in row and ("not", ("name", tree[1])) in row
+    a = tree[1]
+    if a not in row:
+        return False
+    if head == "both":
+        return a[0] == "and" and shown(tree[2], row + (a[1], a[2]), own)
+    if head == "either":
+        if a[0] != "or":
+            return False
+        return shown(tree[2], row + (a[1],), own) and shown(tree[3], row + (a[2],), own)
+    if head == "self":
+        return own == 1 and a[0] == "all" and shown(tree[2], row + (a[2],), own)
+    if a[0] != "some":
+        return False
+    alls = [b[2] for b in row if b[0] == "all" and b[1] == a[1]]
+    return shown(tree[2], (a[2],) + tuple(alls), own)
+
+
 def sayings_to_depth(depth):
     """Every saying over the names p and q whose names lie in at most so many others."""
     found = [P, Q]
@@ -109,3 +148,43 @@ def spoilt_in_one_place(thing, spoil):
         if isinstance(part, tuple):
             for worse in spoilt_in_one_place(part, spoil):
                 yield thing[:place] + (worse,) + thing[place + 1:]
+
+
+def drawn_saying(source, depth, names=("p", "q"), kinds=(0, 1, 2)):
+    """A saying over the names and kinds whose names lie in at most so many others; source is a random.Random."""
+    if depth == 0 or source.random() < 0.1:
+        return ("name", source.choice(names))
+    head = source.choice(("not", "and", "or", "and", "or", "all", "some"))
+    first = drawn_saying(source, depth - 1, names, kinds)
+    if head == "not":
+        return (head, first)
+    if head in ("all", "some"):
+        return (head, source.choice(kinds), first)
+    return (head, first, drawn_saying(source, depth - 1, names, kinds))
+
+
+def drawn_yard(source, size, own=0):
+    """A yard of that many worlds, few ways or many, few names or many."""
+    dense = source.choice((0.1, 0.2, 0.5, 0.8))
+    named = source.choice((0.0, 0.2, 0.5))
+    worlds = []
+    for world in range(size):
+        names = tuple([name for name in ("p", "q") if source.random() < named])
+        ways = [
+            tuple([other for other in range(size) if (own and other == world) or source.random() < dense])
+            for kind in (0, 1, 2)
+        ]
+        worlds.append((names, tuple(ways)))
+    return tuple(worlds)
+
+
+def is_of_tuples(thing):
+    """Whether the thing is made of nothing but tuples, texts and whole numbers."""
+    waiting = [thing]
+    while waiting:
+        part = waiting.pop()
+        if type(part) is tuple:
+            waiting.extend(part)
+        elif type(part) not in (str, int):
+            return False
+    return True

@@ -27,6 +27,10 @@ WORDS_THAT_STAND_NOWHERE = r"""\b(type|typing|typing_extensions|enum|Enum|IntEnu
 |ABC|ABCMeta|namedtuple|NamedTuple|TypedDict|TYPE_CHECKING|abstractmethod)\b|dataclass|overload|contextmanager"""
 WALKERS = ("zip", "enumerate", "reversed", "range")
 WALKED_BY = ("list", "tuple", "dict", "sorted", "sum", "any", "all", "enumerate", "zip", "min", "max")
+VIEWS = ("items", "keys", "values")
+NAMES_NOT_USED = """register mro elements open input version_info with_traceback add_note attrgetter breakpoint builtins
+compile copyright credits delattr dir eval exec exit gc getattr globals hasattr help id importlib license locals
+methodcaller os quit setattr super sys type vars""".split()
 SPECIAL_METHODS = ("__init__", "__eq__", "__repr__", "__str__", "__len__")
 
 
@@ -91,6 +95,24 @@ def walked_on_the_spot(tree):
         elif isinstance(node, ast.Call) and isinstance(node.func, ast.Name) and node.func.id in WALKED_BY:
             found += node.args[:1]
     return found
+
+
+def sets_that_are_not_kept(tree):
+    """Sets beside in, == or !=, or straight within sorted or len, several with a sign between too."""
+    found = []
+    for node in ast.walk(tree):
+        if isinstance(node, ast.Compare) and isinstance(node.ops[0], (ast.In, ast.NotIn, ast.Eq, ast.NotEq)):
+            found += [node.left] + node.comparators
+        elif isinstance(node, ast.Call) and isinstance(node.func, ast.Name) and node.func.id in ("sorted", "len"):
+            found += node.args if node.keywords == [] else []
+    for node in found:
+        if isinstance(node, ast.BinOp):
+            found += [node.left, node.right]
+    return found
+
+
+def is_call_of(node, names):
+    return isinstance(node, ast.Call) and isinstance(node.func, ast.Name) and node.func.id in names
 
 
 def imports(tree):
@@ -164,7 +186,7 @@ class Language(unittest.TestCase):
             for name in bound_names(tree):
                 if name not in SPECIAL_METHODS + ("__all__", "__version__"):
                     self.assertRegex(name, r"^[A-Za-z][A-Za-z0-9_]*$", path)
-                self.assertFalse(hasattr(builtins, name), (path, name))
+                    self.assertFalse(hasattr(builtins, name), (path, name))
             tops = top_names(tree)
             self.assertEqual(len(tops), len(set(tops)), path)
 
@@ -184,8 +206,21 @@ class Language(unittest.TestCase):
         for path, tree in trees():
             walked = walked_on_the_spot(tree)
             for node in ast.walk(tree):
-                if isinstance(node, ast.Call) and isinstance(node.func, ast.Name) and node.func.id in WALKERS:
+                views = isinstance(node, ast.Call) and isinstance(node.func, ast.Attribute) and node.func.attr in VIEWS
+                if views or is_call_of(node, WALKERS):
                     self.assertTrue(any(node is one for one in walked), (path, node.lineno))
+
+    def test_sets_are_not_kept(self):
+        for path, tree in trees():
+            right = sets_that_are_not_kept(tree)
+            for node in ast.walk(tree):
+                if isinstance(node, ast.Set) or is_call_of(node, ("set", "frozenset")):
+                    self.assertTrue(any(node is one for one in right), (path, node.lineno))
+
+    def test_names_that_are_not_used(self):
+        for path, node in nodes((ast.Name, ast.Attribute, ast.arg, ast.FunctionDef, ast.ClassDef)):
+            for field in ("id", "attr", "arg", "name"):
+                self.assertNotIn(getattr(node, field, None), NAMES_NOT_USED, path)
 
     def test_methods(self):
         own = [node.name for path, node in nodes(ast.FunctionDef)]

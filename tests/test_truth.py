@@ -1,7 +1,7 @@
 import itertools
 import unittest
 
-from samples import LEADS_TO_ITSELF, LONE, P, Q, WRITINGS, YARDS, sayings_to_depth, wrapped
+from samples import LEADS_TO_ITSELF, LONE, P, Q, WRITINGS, YARDS, said, sayings_to_depth, wrapped
 from worldyard.errors import NoSaying, NoText, NoWorld, YardError
 from worldyard.things import is_yard
 from worldyard.truth import everywhere, holds
@@ -56,27 +56,6 @@ TOLD = [
     (("some", 1, ("and", P, ("all", 0, Q))), (1,)),
     (("and", ("some", 0, P), ("all", 1, ("or", Q, ("some", 1, ("not", P))))), (0, 3)),
 ]
-
-
-def led_to(yard, world, kind):
-    return yard[world][1][kind]
-
-
-def said(yard, world, saying):
-    """Whether it holds, straight from the document's sentence, world by world."""
-    head = saying[0]
-    if head == "name":
-        return saying[1] in yard[world][0]
-    if head == "not":
-        return not said(yard, world, saying[1])
-    if head == "and":
-        return said(yard, world, saying[1]) and said(yard, world, saying[2])
-    if head == "or":
-        return said(yard, world, saying[1]) or said(yard, world, saying[2])
-    worlds = led_to(yard, world, saying[1])
-    if head == "all":
-        return all(said(yard, other, saying[2]) for other in worlds)
-    return any(said(yard, other, saying[2]) for other in worlds)
 
 
 def yards_of_two():

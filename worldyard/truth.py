@@ -31,9 +31,13 @@ def truths(yard, saying):
     return gathered(saying, lambda part, rows: row_of(yard, part, rows))
 
 
-def holds(yard, world, saying):
+def must_have(yard, world):
     if not is_below(world, len(yard)):
         raise NoWorld("the yard has no such world")
+
+
+def holds(yard, world, saying):
+    must_have(yard, world)
     return truths(yard, saying)[world]
 
 
